@@ -1,0 +1,66 @@
+"""Kinds: their variables, kinds put in the place of these, and instances (13)."""
+
+from facework.forms import headed, is_open
+from facework.words import ARROW
+
+
+def outer_first(kind):
+    # A kind and all kinds within it, from the left, each ahead of those within it.
+    waiting = [kind]
+    parts = []
+    while len(waiting) > 0:
+        part = waiting.pop()
+        parts.append(part)
+        if isinstance(part, tuple):
+            waiting.extend(list(reversed(part[1:])))
+    return parts
+
+
+def variables(kind):
+    standing = {}
+    for part in outer_first(kind):
+        if is_open(part):
+            standing[part] = True
+    return list(standing)
+
+
+def put(kind, by):
+    # From the right, so that the kinds within a part are done, the first on top, when it is come to.
+    done = []
+    for part in reversed(outer_first(kind)):
+        if isinstance(part, tuple):
+            inner = [done.pop() for place in range(1, len(part))]
+            done.append(part[:1] + tuple(inner))
+        elif is_open(part):
+            done.append(by.get(part, part))
+        else:
+            done.append(part)
+    return done[0]
+
+
+def same_head(one, other):
+    return len(one) == len(other) and one[0] == other[0]
+
+
+def instance(wide, kind):
+    by = {}
+    waiting = [(wide, kind)]
+    while len(waiting) > 0:
+        pair = waiting.pop()
+        if is_open(pair[0]):
+            if by.setdefault(pair[0], pair[1]) != pair[1]:
+                return None
+        else:
+            one = headed(pair[0])
+            other = headed(pair[1])
+            if not same_head(one, other):
+                return None
+            waiting.extend(list(zip(one[1:], other[1:])))
+    return by
+
+
+def from_each(froms, kind):
+    # The kind of functions that take one after another: (-> K (-> .. kind)).
+    for one in reversed(froms):
+        kind = (ARROW, one, kind)
+    return kind
