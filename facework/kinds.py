@@ -64,3 +64,12 @@ def from_each(froms, kind):
     for one in reversed(froms):
         kind = (ARROW, one, kind)
     return kind
+
+
+def taken_apart(kind, count):
+    # The first kinds that such functions take, as many as count, and behind these what is left.
+    told = []
+    for place in range(count):
+        told.append(kind[1])
+        kind = kind[2]
+    return told + [kind]

@@ -34,6 +34,25 @@ def text_of(thing):
     return str(thing)
 
 
+def parts_of(text):
+    """The things of a text in which any words may stand, such as the variable ?0."""
+    levels = [[]]
+    for piece in text.replace("(", " ( ").replace(")", " ) ").split():
+        if piece == "(":
+            levels.append([])
+        elif piece == ")":
+            inner = tuple(levels.pop())
+            levels[-1].append(inner)
+        else:
+            levels[-1].append(piece)
+    return tuple(levels[0])
+
+
+def part_of(text):
+    told, = parts_of(text)
+    return told
+
+
 def thing_with(thing, path, new):
     """The thing, with another one at the place that the path leads to."""
     if not path:
