@@ -29,10 +29,10 @@ class Joins:
         # No variable may be come to from itself, so joining always comes to an end.
         if variable in self.inner_first([kind]):
             return None
+        # What was put for it is joined with the kind instead; so two variables get one end, and what
+        # was put for them is joined once, however often they meet.
         was = self.bound.get(variable)
-        if was is None or self.is_loose(kind):
-            # Two variables get one end, so that what is put for them is joined once, however often they meet.
-            self.bound[variable] = kind
+        self.bound[variable] = kind
         return [] if was is None else [(kind, was)]
 
     def join_ends(self, one, other):

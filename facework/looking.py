@@ -29,7 +29,9 @@ def are_kinds(given, count):
 
 def stand_in(given, names):
     # Whether one of these stands in the names, but among a scheme's own.
-    for name in names if len(given) > 0 else ():
+    if len(given) == 0:
+        return False
+    for name in names:
         scheme = names[name]
         if any([variable in given and variable not in scheme[0] for variable in variables(scheme[1])]):
             return True
