@@ -25,6 +25,8 @@ def variables(kind):
 
 
 def put(kind, by):
+    if len(by) == 0:
+        return kind
     # From the right, so that the kinds within a part are done, the first on top, when it is come to.
     done = []
     for part in reversed(outer_first(kind)):

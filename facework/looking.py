@@ -6,6 +6,8 @@ from facework.papers import laid_out, plain_schemes, with_names
 from facework.reading import all_are, all_fit, has_length, is_list, kinds_within
 from facework.words import ARROW, is_great
 
+MOST_NEAR = 8
+
 
 def open_kinds_within(thing):
     return [] if is_open(thing) else kinds_within(thing)
@@ -15,8 +17,19 @@ def is_open_kind(thing):
     return all_fit(thing, open_kinds_within)
 
 
-def is_row(row):
-    return has_length(row, 2, 2) and is_open_kind(row[0])
+def are_rows(paper, count):
+    if not isinstance(paper, list) or len(paper) != count:
+        return False
+    # Rows near one another are often of one kind, which may be large: it is looked at once.
+    near = []
+    for row in paper:
+        if not has_length(row, 2, 2):
+            return False
+        if row[0] not in near:
+            if not is_open_kind(row[0]):
+                return False
+            near = near[-MOST_NEAR:] + [row[0]]
+    return True
 
 
 def are_unlike_variables(given):
@@ -69,9 +82,12 @@ def look_name(at):
     if at.phrase not in at.names:
         return None
     scheme = at.names[at.phrase]
-    if not are_kinds(at.given, len(scheme[0])):
+    if not has_length(at.given, len(scheme[0]), len(scheme[0])):
         return None
-    return same_names(at, put(scheme[1], dict(zip(scheme[0], at.given))) == at.kind)
+    by = dict(zip(scheme[0], at.given))
+    # What is put for a variable that stands in the kind is a kind where the whole is the row's.
+    spare = [by[variable] for variable in by if variable not in variables(scheme[1])]
+    return same_names(at, all_are(spare, is_open_kind) and put(scheme[1], by) == at.kind)
 
 
 def look_scheme(at, scheme):
@@ -185,7 +201,7 @@ def look_at_place(at):
 
 def takes(sorts, names, phrase, paper):
     laid = laid_out(phrase)
-    if not isinstance(paper, list) or len(paper) != len(laid) or not all_are(paper, is_row):
+    if not are_rows(paper, len(laid)):
         return False
     names_at = {0: names}
     for place, row in enumerate(laid):

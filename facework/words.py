@@ -14,7 +14,8 @@ KEPT = (
 
 
 def all_of(text, signs):
-    return all([sign in signs for sign in text])
+    # What is left when these signs are taken from both ends begins with another sign.
+    return text.strip(signs) == ""
 
 
 def is_small(thing):

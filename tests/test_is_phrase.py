@@ -61,6 +61,14 @@ class Phrases(Case):
         for place in (1, 2, 3, 4):
             self.place("(T 1 2 3 4)", (place,), ALONE)
 
+    def test_a_tag_begins_with_a_great_letter(self):
+        for letter in "abcdefghijklmnopqrstuvwxyz":
+            self.assertIs(is_phrase((letter.upper(), 1)), True)
+            self.assertIs(is_phrase((letter.upper() + letter, 1)), True)
+            self.assertIs(is_phrase((letter, 1)), False)
+            self.assertIs(is_phrase((letter + letter, 1)), False)
+            self.assertIs(is_phrase((letter.upper() * 2, 1)), False)
+
     def test_what_stands_first(self):
         # With two things behind it, the heads of calls and of the works on numbers fit too.
         for head in ("x", "A.x", "?a", "->", 5, (), "num", "kind", "record", "face", "hide", "val", "part", "maker",
