@@ -1,6 +1,6 @@
 """Kinds: their variables, kinds put in the place of these, and instances (13)."""
 
-from facework.forms import headed, is_open
+from facework.forms import formed, headed, is_open
 from facework.words import ARROW
 
 
@@ -24,20 +24,21 @@ def variables(kind):
     return list(standing)
 
 
+def remade(kind, make):
+    # The kind made anew from within: make tells what comes of a head and of its inner kinds. From
+    # the right, so that the kinds within a part are done, the first on top, when it is come to.
+    done = []
+    for part in reversed(outer_first(kind)):
+        words = headed(part)
+        inner = [done.pop() for place in range(1, len(words))]
+        done.append(make(words[0], inner))
+    return done[0]
+
+
 def put(kind, by):
     if len(by) == 0:
         return kind
-    # From the right, so that the kinds within a part are done, the first on top, when it is come to.
-    done = []
-    for part in reversed(outer_first(kind)):
-        if isinstance(part, tuple):
-            inner = [done.pop() for place in range(1, len(part))]
-            done.append(part[:1] + tuple(inner))
-        elif is_open(part):
-            done.append(by.get(part, part))
-        else:
-            done.append(part)
-    return done[0]
+    return remade(kind, lambda head, inner: by.get(head, head) if is_open(head) else formed(head, inner))
 
 
 def same_head(one, other):

@@ -1,12 +1,8 @@
 """The schemes that the kinds and records of a program give (14)."""
 
+from facework.forms import formed
 from facework.kinds import from_each
 from facework.words import ARROW
-
-
-def declared_kind(declaration):
-    # The name with its variables, alone where it has none.
-    return (declaration[1],) + declaration[2] if len(declaration[2]) > 0 else declaration[1]
 
 
 class Sorts:
@@ -24,14 +20,14 @@ class Sorts:
                 self.take_record(declaration)
 
     def take_kind(self, declaration):
-        kind = declared_kind(declaration)
+        kind = formed(declaration[1], declaration[2])
         for row in declaration[3:]:
             self.tag_schemes[row[0]] = (declaration[2], from_each(row[1:], kind))
             self.kinds_of_tags[row[0]] = declaration[1]
         self.tags_of_kinds[declaration[1]] = [row[0] for row in declaration[3:]]
 
     def take_record(self, declaration):
-        kind = declared_kind(declaration)
+        kind = formed(declaration[1], declaration[2])
         kinds = [field[1] for field in declaration[3:]]
         self.record_schemes[declaration[1]] = (declaration[2], from_each(kinds, kind))
         for field in declaration[3:]:

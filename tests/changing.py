@@ -1,4 +1,9 @@
-"""Papers changed at one place, for the looker to tell apart."""
+"""Papers and programs changed at one place, for the program to tell apart."""
+
+from facework.errors import FaceError
+from facework.reading import read
+from facework.showing import shown_program
+from helping import thing_with
 
 
 def other_kinds(choice, kind):
@@ -40,3 +45,49 @@ def changed_papers(choice, phrases, paper, most):
         turned[place], turned[other] = turned[other], turned[place]
         told.append(turned)
     return told if len(told) <= most else choice.sample(told, most)
+
+
+def places(thing, path):
+    """Where the words and numbers of a thing are, and the things that hold others."""
+    told = [path]
+    if isinstance(thing, tuple):
+        for count, inner in enumerate(thing):
+            told += places(inner, path + (count,))
+    return told
+
+
+def at(thing, path):
+    for count in path:
+        thing = thing[count]
+    return thing
+
+
+def sort_of(thing):
+    if not isinstance(thing, str):
+        return "number" if isinstance(thing, int) else "brackets"
+    if thing.startswith("?") or thing == "->":
+        return thing[0]
+    return "path" if "." in thing else "great" if thing[0].isupper() else "small"
+
+
+def changed_program(choice, program):
+    """The program with one thing in the place of another of its sort, or one thing taken out or put in again."""
+    path = choice.choice(places(program, ())[1:])
+    other = choice.choice(places(program, ())[1:])
+    one, two = at(program, path), at(program, other)
+    if sort_of(one) == sort_of(two) and choice.random() < 0.8:
+        return thing_with(program, path, two)
+    holder = at(program, path[:-1])
+    if choice.random() < 0.5:
+        made = holder[:path[-1]] + holder[path[-1] + 1:]
+    else:
+        made = holder[:path[-1]] + (one,) + holder[path[-1]:]
+    return thing_with(program, path[:-1], made)
+
+
+def is_formed(program):
+    """Whether the program is of the form of one: shown as a text, it is read as it is."""
+    try:
+        return read(shown_program(program)) == program
+    except FaceError:
+        return False

@@ -4,8 +4,7 @@ import unittest
 from facework.errors import FaceError
 from facework.reading import read
 from facework.scopes import look_over
-from facework.showing import shown_program
-from helping import thing_with
+from changing import changed_program, is_formed
 from plain_scopes import plain_look_over
 
 RICH = (
@@ -24,52 +23,6 @@ RICH = (
     " (case (Cons 1 (Cons 2 Nil)) ((Nil) (pick one (make pair 1 Last.go)))"
     " ((Cons h t) (case (Mix Ones.zero (make pair h t)) ((Mix a b) (call g h)) ((No a b) (less h (times 2 h))))))))"
 )
-
-
-def places(thing, path):
-    """Where the words and numbers of a thing are, and the things that hold others."""
-    told = [path]
-    if isinstance(thing, tuple):
-        for count, inner in enumerate(thing):
-            told += places(inner, path + (count,))
-    return told
-
-
-def at(thing, path):
-    for count in path:
-        thing = thing[count]
-    return thing
-
-
-def sort_of(thing):
-    if not isinstance(thing, str):
-        return "number" if isinstance(thing, int) else "brackets"
-    if thing.startswith("?") or thing == "->":
-        return thing[0]
-    return "path" if "." in thing else "great" if thing[0].isupper() else "small"
-
-
-def changed(choice, program):
-    """The program with one thing in the place of another of its sort, or one thing taken out or put in again."""
-    path = choice.choice(places(program, ())[1:])
-    other = choice.choice(places(program, ())[1:])
-    one, two = at(program, path), at(program, other)
-    if sort_of(one) == sort_of(two) and choice.random() < 0.8:
-        return thing_with(program, path, two)
-    holder = at(program, path[:-1])
-    if choice.random() < 0.5:
-        made = holder[:path[-1]] + holder[path[-1] + 1:]
-    else:
-        made = holder[:path[-1]] + (one,) + holder[path[-1]:]
-    return thing_with(program, path[:-1], made)
-
-
-def is_formed(program):
-    """Whether the program is of the form of one: shown as a text, it is read as it is."""
-    try:
-        return read(shown_program(program)) == program
-    except FaceError:
-        return False
 
 
 def told_of(program):
@@ -91,7 +44,7 @@ class Plainly(unittest.TestCase):
         while sum(counts.values()) < 300:
             program = read(RICH)
             for turn in range(choice.choice((1, 1, 2, 3))):
-                made = changed(choice, program)
+                made = changed_program(choice, program)
                 program = made if is_formed(made) else program
             if program != read(RICH):
                 wanted = plain_look_over(program)
