@@ -1,6 +1,6 @@
 """The faces of parts, and what parts and givers show (12, 19)."""
 
-from facework.forms import formed, given_face, headed, items_of
+from facework.forms import by_givers, formed, given_face, headed, items_of, named
 from facework.kinds import remade, variables
 from facework.words import is_path
 
@@ -18,10 +18,6 @@ def turned_word(word, by):
     return by.get(sides[0], sides[0]) + "." + sides[1]
 
 
-def by_givers(givers, parts):
-    return dict(zip([giver[0] for giver in givers], parts))
-
-
 def closed(kind):
     # The scheme that gives all variables of the kind.
     return (tuple(variables(kind)), kind)
@@ -31,15 +27,11 @@ class Faces:
 
     def __init__(self, program):
         # Of a face and of a maker its declaration; of a part, also an applied one, its R as a tuple.
-        self.face_declarations = {}
-        self.maker_declarations = {}
+        self.face_declarations = named(program, "face")
+        self.maker_declarations = named(program, "maker")
         self.part_faces = {}
         for declaration in program:
-            if declaration[0] == "face":
-                self.face_declarations[declaration[1]] = declaration
-            elif declaration[0] == "maker":
-                self.maker_declarations[declaration[1]] = declaration
-            elif declaration[0] == "part":
+            if declaration[0] == "part":
                 self.part_faces[declaration[1]] = headed(given_face(declaration))
             elif declaration[0] == "apply":
                 self.part_faces[declaration[1]] = self.face_of_applied(declaration)

@@ -32,3 +32,35 @@ def given_face(declaration):
 
 def body_of(declaration):
     return declaration[4:] if declaration[0] == "maker" else declaration[3:]
+
+
+def named(program, sort):
+    # The declarations of one sort by their names.
+    return dict([(declaration[1], declaration) for declaration in program if declaration[0] == sort])
+
+
+def by_givers(givers, parts):
+    return dict(zip([giver[0] for giver in givers], parts))
+
+
+def made_parts(program):
+    # Of each part, applied ones too, in order: its name, the body that makes it, and which parts
+    # the givers in it are.
+    makers = named(program, "maker")
+    told = []
+    for declaration in program:
+        if declaration[0] == "part":
+            told.append((declaration[1], body_of(declaration), {}))
+        elif declaration[0] == "apply":
+            maker = makers[declaration[2]]
+            told.append((declaration[1], body_of(maker), by_givers(maker[2], declaration[3:])))
+    return told
+
+
+def field_places(program):
+    # Of each field its record, and which of its fields it is, from 0 on.
+    told = {}
+    for record in named(program, "record").values():
+        for place, field in enumerate(record[3:]):
+            told[field[0]] = (record[1], place)
+    return told

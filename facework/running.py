@@ -1,9 +1,8 @@
 """Programs run as they stand (23, 24)."""
 
-from facework.bounds import Calls, number_of
-from facework.faces import by_givers
-from facework.forms import body_of, items_of
+from facework.forms import items_of, made_parts
 from facework.papers import with_names
+from facework.runs import Calls, number_of
 from facework.working import Worker, worked_out
 
 
@@ -15,17 +14,12 @@ def vals_of(worker, body, names):
     return told
 
 
-def go_through(worker, declaration):
-    if declaration[0] == "part":
-        worker.part_vals[declaration[1]] = vals_of(worker, body_of(declaration), {})
-    elif declaration[0] == "apply":
-        maker = worker.makers[declaration[2]]
-        parts = by_givers(maker[2], declaration[3:])
-        worker.part_vals[declaration[1]] = vals_of(worker, body_of(maker), parts)
+def work_out_parts(worker, parts):
+    for name, body, givers in parts:
+        worker.part_vals[name] = vals_of(worker, body, givers)
 
 
 def run(program, most=300):
     worker = Worker(program, Calls(most))
-    for declaration in program[:-1]:
-        go_through(worker, declaration)
+    work_out_parts(worker, made_parts(program))
     return number_of(worked_out(worker, program[-1][1], {}))

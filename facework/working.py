@@ -1,9 +1,9 @@
 """Phrases worked out to values (23, 24)."""
 
-from facework.bounds import number_of, reckoned
 from facework.errors import Stuck
-from facework.forms import headed
+from facework.forms import field_places, headed
 from facework.papers import with_names
+from facework.runs import block_of, number_of, reckoned, taken_off
 from facework.words import is_great, is_path
 
 # A value is a whole number, a block, which is a tuple of a tag's or a record's name and its values,
@@ -27,25 +27,12 @@ class Worker:
         # on top: tuples of a def, a phrase and the names there.
         self.pile = []
         self.steps = []
-        # Of each maker its declaration; of each field its record and its place in a block; of each
-        # part the values of its vals.
-        self.makers = {}
-        self.field_places = {}
+        # Of each field its record and its place in it; of each part the values of its vals.
+        self.record_places = field_places(program)
         self.part_vals = {}
-        for declaration in program:
-            if declaration[0] == "maker":
-                self.makers[declaration[1]] = declaration
-            elif declaration[0] == "record":
-                for place, field in enumerate(declaration[3:], start=1):
-                    self.field_places[field[0]] = (declaration[1], place)
 
     def then(self, steps):
         self.steps.extend(list(reversed(steps)))
-
-    def take(self, count):
-        # The last values, as many as count, in their order.
-        told = [self.pile.pop() for place in range(count)]
-        return tuple(reversed(told))
 
 
 def steps_of(phrases, names):
@@ -73,12 +60,12 @@ def begin_call(worker, function, argument):
 
 
 def end_call(worker, phrase, names):
-    values = worker.take(2)
+    values = taken_off(worker.pile, 2)
     begin_call(worker, values[0], values[1])
 
 
 def end_let(worker, phrase, names):
-    worker.then(steps_of(phrase[3:], with_names(names, [phrase[1]], worker.take(1))))
+    worker.then(steps_of(phrase[3:], with_names(names, [phrase[1]], taken_off(worker.pile, 1))))
 
 
 def end_ring(worker, phrase, names):
@@ -89,35 +76,30 @@ def end_ring(worker, phrase, names):
     worker.then(steps_of(phrase[2:], own))
 
 
-def block_of(value):
-    if not isinstance(value, tuple):
-        raise Stuck("a value where a block is wanted")
-    return value
-
-
 def end_case(worker, phrase, names):
     block = block_of(worker.pile.pop())
     for arm in phrase[2:]:
-        if arm[0][0] == block[0]:
+        # A value that a tie tells may have more or fewer values than its tag takes.
+        if arm[0][0] == block[0] and len(arm[0]) == len(block):
             worker.then(steps_of(arm[1:], with_names(names, arm[0][1:], block[1:])))
             return
     raise Stuck("a block without an arm")
 
 
 def end_make(worker, phrase, names):
-    worker.pile.append((phrase[1],) + worker.take(len(phrase) - 2))
+    worker.pile.append((phrase[1],) + taken_off(worker.pile, len(phrase) - 2))
 
 
 def end_pick(worker, phrase, names):
     block = block_of(worker.pile.pop())
-    field = worker.field_places[phrase[1]]
-    if block[0] != field[0]:
+    field = worker.record_places[phrase[1]]
+    if block[0] != field[0] or len(block) <= field[1] + 1:
         raise Stuck("a field of another record")
-    worker.pile.append(block[field[1]])
+    worker.pile.append(block[field[1] + 1])
 
 
 def end_numbers(worker, phrase, names):
-    values = worker.take(2)
+    values = taken_off(worker.pile, 2)
     worker.pile.append(reckoned(phrase[0], values[0], values[1]))
 
 
@@ -127,7 +109,7 @@ def end_if(worker, phrase, names):
 
 
 def end_tag(worker, phrase, names):
-    worker.pile.append(phrase[:1] + worker.take(len(phrase) - 1))
+    worker.pile.append(phrase[:1] + taken_off(worker.pile, len(phrase) - 1))
 
 
 # Of each form from where and to where those of its phrases stand that come first, and what is done behind them.

@@ -2,8 +2,9 @@
 
 from facework.errors import FaceError
 from facework.reading import read
+from facework.scopes import look_over
 from facework.showing import shown_program
-from helping import thing_with
+from helping import thing_with, told_of
 
 
 def other_kinds(choice, kind):
@@ -91,3 +92,15 @@ def is_formed(program):
         return read(shown_program(program)) == program
     except FaceError:
         return False
+
+
+def changed_programs(choice, programs, count):
+    """Programs that are let by when they are looked over, each changed at some places."""
+    while count > 0:
+        program = kept = choice.choice(list(programs.values()))
+        for turn in range(choice.choice((1, 1, 2, 3))):
+            made = changed_program(choice, program)
+            program = made if is_formed(made) else program
+        if program != kept and told_of(look_over, program) is None:
+            count -= 1
+            yield program

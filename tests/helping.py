@@ -68,6 +68,14 @@ def is_plain(thing):
     return type(thing) in (int, str)
 
 
+def told_of(call, *given):
+    """What a call tells: its answer, or the name of what refuses it."""
+    try:
+        return call(*given)
+    except errors.FaceError as refusal:
+        return type(refusal).__name__
+
+
 class Case(unittest.TestCase):
 
     def refused(self, name, call, *given):

@@ -1,4 +1,4 @@
-"""Programs that are taken, of many sorts, by a name each; and the number that each comes to."""
+"""Programs that are taken, of many sorts, by a name each, and the number that each comes to; and phrases of many calls."""
 
 from facework.reading import read
 
@@ -102,3 +102,17 @@ TEXTS = {
 
 PROGRAMS = {name: read(text) for name, (text, number) in TEXTS.items()}
 NUMBERS = {name: number for name, (text, number) in TEXTS.items()}
+
+
+def calls_in_turn(count):
+    """A phrase of so many calls, one behind another, none of them within another."""
+    if count == 0:
+        return 0
+    if count == 1:
+        return ("call", ("fun", "x", "x"), 0)
+    return ("plus", calls_in_turn(count // 2), calls_in_turn(count - count // 2))
+
+
+def calls_within(count):
+    """A phrase in which so many calls are under way at once, and no more are begun."""
+    return f"(ring ((f x (if x (call f (minus x 1)) 7))) (call f {count - 1}))"

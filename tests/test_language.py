@@ -148,7 +148,7 @@ class Language(unittest.TestCase):
                     right.add(node.func)
                     right.update(node.args if called(node) == "isinstance" else ())
                 if isinstance(node, ast.ExceptHandler):
-                    right.add(node.type)
+                    right.update(node.type.elts if isinstance(node.type, ast.Tuple) else [node.type])
                 if isinstance(node, ast.ClassDef):
                     right.update(node.bases)
             for node in ast.walk(tree):

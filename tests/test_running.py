@@ -7,7 +7,7 @@ from facework.reading import read
 from facework.running import run
 from facework.scopes import look_over
 from helping import Case, text_of
-from programs import BIT, COUNT, LIST, NUMBERS, ONES, PAIR, PROGRAMS
+from programs import BIT, COUNT, LIST, NUMBERS, ONES, PAIR, PROGRAMS, calls_in_turn, calls_within
 
 SIXTY = 10 ** 60 - 1
 # Phrases that are refused, each in its own way, when they are worked out.
@@ -26,20 +26,6 @@ def told(text, most=300):
         return run(program, most)
     except FaceError as refusal:
         return type(refusal).__name__
-
-
-def calls_in_turn(count):
-    """A phrase of so many calls, one behind another, none of them within another."""
-    if count == 0:
-        return 0
-    if count == 1:
-        return ("call", ("fun", "x", "x"), 0)
-    return ("plus", calls_in_turn(count // 2), calls_in_turn(count - count // 2))
-
-
-def calls_within(count):
-    """A phrase in which so many calls are under way at once, and no more are begun."""
-    return f"(ring ((f x (if x (call f (minus x 1)) 7))) (call f {count - 1}))"
 
 
 class Phrases(Case):

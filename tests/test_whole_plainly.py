@@ -3,33 +3,14 @@
 import random
 import unittest
 
-from changing import changed_program, is_formed
-from facework.errors import FaceError
+from changing import changed_programs
 from facework.running import run
 from facework.scopes import look_over
 from facework.taking import takes_papers
 from facework.whole import papers_of
+from helping import told_of
 from plain_whole import plain_papers, plain_run, plain_takes_papers
 from programs import PROGRAMS
-
-
-def told_of(call, *given):
-    try:
-        return call(*given)
-    except FaceError as refusal:
-        return type(refusal).__name__
-
-
-def changed_programs(choice, count):
-    """Programs that are let by when they are looked over, each changed at some places."""
-    while count > 0:
-        program = kept = choice.choice(list(PROGRAMS.values()))
-        for turn in range(choice.choice((1, 1, 2, 3))):
-            made = changed_program(choice, program)
-            program = made if is_formed(made) else program
-        if program != kept and told_of(look_over, program) is None:
-            count -= 1
-            yield program
 
 
 class Plainly(unittest.TestCase):
@@ -44,7 +25,7 @@ class Plainly(unittest.TestCase):
     def test_changed_programs(self):
         counts = {}
         choice = random.Random(12)
-        for program in changed_programs(choice, 250):
+        for program in changed_programs(choice, PROGRAMS, 250):
             papers = told_of(papers_of, program)
             self.assertEqual(papers, plain_papers(program), program)
             most = choice.choice((300, 300, 300, 20, 3, 0, -1))

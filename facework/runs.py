@@ -1,4 +1,4 @@
-"""What a run may not go beyond, as it stands and as code: its numbers and its calls (24)."""
+"""What runs of programs and of code have in common: their numbers, calls and values (24)."""
 
 from facework.errors import Stuck, TooDeep, TooGreat, TooLong
 from facework.words import is_whole
@@ -36,6 +36,19 @@ def reckoned(word, one, other):
     if abs(number) >= 10 ** 60:
         raise TooGreat("a number of more than 60 figures")
     return number
+
+
+def taken_off(pile, count):
+    # The top values, as many as count, in their order.
+    told = [pile.pop() for place in range(count)]
+    return tuple(reversed(told))
+
+
+def block_of(value):
+    # A block is a tuple of its name or number and its values.
+    if not isinstance(value, tuple):
+        raise Stuck("a value where a block is wanted")
+    return value
 
 
 class Calls:
