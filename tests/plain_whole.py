@@ -3,6 +3,7 @@
 Nothing here is quick, and nothing is taken from the program itself.
 """
 
+import itertools
 import sys
 
 from plain import matched, plain_found, plain_takes, standing, with_put
@@ -370,3 +371,73 @@ def plain_run(program, most=300):
     except Refused as refusal:
         told = refusal.name
     return told, run.begun
+
+
+def told_value(value):
+    """A number or a block as a tie tells it; a function as itself."""
+    if isinstance(value, Number):
+        return value.number
+    if isinstance(value, Block):
+        return (value.name,) + tuple(told_value(one) for one in value.values)
+    return value
+
+
+def value_told(told):
+    if isinstance(told, tuple):
+        return Block(told[0], [value_told(one) for one in told[1:]])
+    value = Number(0)
+    value.number = told
+    return value
+
+
+def run_of_part(program, part, most):
+    """A run that has come to behind the part's vals."""
+    run = Run(program, 400)
+    for declaration in program:
+        if declaration[0] == "apply":
+            maker = called(program, "maker", declaration[2])
+            run.part(declaration[1], maker[4:], {giver: one for (giver, given), one in zip(maker[2], declaration[3:])})
+        elif declaration[0] == "part":
+            if declaration[1] == part:
+                run.begun, run.most = 0, most
+            run.part(declaration[1], declaration[3:], {})
+            if declaration[1] == part:
+                return run
+    raise AssertionError(part)
+
+
+def plain_choices(program, hides, tie, kind):
+    """The pairs that an argument of that kind may be."""
+    if kind in hides:
+        return [(one, other) for word, one, other in tie if word == kind]
+    return [((row[0],), (row[0],)) for row in called(program, "kind", kind)[3:]]
+
+
+def plain_tied(program, part, body, tie, most=100):
+    """Whether two bodies are tied, of what can be looked at."""
+    own = called(program, "part", part)
+    face = called(program, "face", given_in(own)[0])
+    hides = [item[1] for item in face[3:] if item[0] == "hide"]
+    changed = tuple(one[:3] + body if one == own else one for one in program)
+    try:
+        runs = [run_of_part(program, part, most), run_of_part(changed, part, most)]
+        for item in face[3:]:
+            if item[0] != "val":
+                continue
+            kinds, kind = [], item[2]
+            while isinstance(kind, tuple):
+                kinds.append(kind[1])
+                kind = kind[2]
+            for choice in itertools.product(*[plain_choices(program, hides, tie, one) for one in kinds]):
+                told = []
+                for side, run in enumerate(runs):
+                    run.begun = run.under_way = 0
+                    value = run.parts[part][item[1]]
+                    for pair in choice:
+                        value = run.call(must_be(value, Act), value_told(pair[side]))
+                    told.append(told_value(value))
+                if not ((kind, *told) in tie if kind in hides else told[0] == told[1]):
+                    return False
+    except Refused:
+        return False
+    return True
