@@ -95,6 +95,17 @@ class Forms(Coding):
         ):
             self.comes_to(wanted, BIT + PAIR + LIST + f"(main {phrase})")
 
+    def test_a_kind_of_one_tag_and_one_of_six(self):
+        self.comes_to(7, "(kind solo () (Solo num num)) (main (case (Solo 3 4) ((Solo a b) (plus a b))))")
+        tags = "ABCDEF"
+        kind = "(kind six () " + " ".join(f"({tag} {'num ' * (place % 5)})" for place, tag in enumerate(tags)) + ")"
+        arms = " ".join(f"(({tag} {' '.join('abcd'[:place % 5])}) {10 * place})" for place, tag in enumerate(tags))
+        turned = " ".join(f"(({tag} {' '.join('abcd'[:place % 5])}) {10 * place})" for place, tag in reversed(list(enumerate(tags))))
+        for place, tag in enumerate(tags):
+            phrase = f"({tag} {'1 ' * (place % 5)})" if place % 5 else tag
+            self.comes_to(10 * place, kind + f"(main (case {phrase} {arms}))")
+            self.comes_to(10 * place, kind + f"(main (case {phrase} {turned}))")
+
     def test_programs(self):
         for name, program in PROGRAMS.items():
             with self.subTest(name):

@@ -55,6 +55,27 @@ def flag(body, ground="", main="(call Fl.get (call Fl.turn Fl.off))"):
     return read(BIT + PAIR + LIST + FLAG + ground + f"(part Fl Flag {body}) (main {main})")
 
 
+def some_flag(choice, depth):
+    """A phrase of the kind that the part Fl hides."""
+    if depth == 0:
+        return "Fl.off"
+    of = lambda: some_flag(choice, depth - 1)
+    return choice.choice((
+        lambda: of(), lambda: f"(call Fl.turn {of()})", lambda: f"(call (call Fl.both {of()}) {of()})",
+        lambda: f"(if {some_number(choice, depth - 1)} {of()} {of()})", lambda: f"(let x {of()} (call Fl.turn x))",
+    ))()
+
+
+def some_number(choice, depth):
+    if depth == 0:
+        return str(choice.randrange(-3, 4))
+    of = lambda: some_number(choice, depth - 1)
+    return choice.choice((
+        lambda: f"(call Fl.get {some_flag(choice, depth)})", lambda: f"({choice.choice(('plus', 'minus', 'times', 'less'))} {of()} {of()})",
+        lambda: f"(case (call Fl.is {some_flag(choice, depth)}) ((On) {of()}) ((Off) {of()}))", lambda: f"(if {of()} {of()} {of()})",
+    ))()
+
+
 class Ties(Case):
 
     def tied(self, wanted, program, part, body, tie, most=100):
@@ -189,7 +210,10 @@ class Tied(Ties):
             self.assertIs(tied(flag(BITS), "Fl", things_of(NUMS), tie_of(BITS, NUMS) + [("t", value, 0)]), False)
         for value in (("pair",), ("pair", 0), OFF, 0):
             self.assertIs(tied(flag(RECORDS), "Fl", things_of(NUMS), tie_of(RECORDS, NUMS) + [("t", value, 0)]), False)
-        self.assertIs(tied(flag(NUMS), "Fl", things_of(NUMS.replace("(if x On Off)", "On")), [("t", 0, OFF)]), False)
+        # The same value in both, but no number.
+        program = read(BIT + "(face F () (hide t 0) (val get (-> t num))) (part P F (hide t () num) (val get (fun x x))) (main 0)")
+        self.assertIs(tied(program, "P", program[2][3:], [("t", 1, 1)]), True)
+        self.assertIs(tied(program, "P", program[2][3:], [("t", ON, ON)]), False)
 
     def test_a_kind_behind_the_part_that_is_called_like_its_hide(self):
         # The hide is meant: no block of the kind is chosen.
@@ -204,7 +228,7 @@ class Tied(Ties):
             "(maker M ((X Num)) Num (val n (plus X.n 1))) (apply Six M N)"
         )
         program = read(ground + "(part P (Inc N) (hide t () num) (val a 0) (val up (fun x 5)) (val get (fun x x)))"
-                       "(part Q Num (val n (call (fun x x) 1))) (main (call P.get P.a))")
+                       "(part Q Num (val n (call (fun x x) 1))) (main (plus Q.n (call P.get P.a)))")
         papers_of(program)
         body = things_of("(hide t () num) (val a N.n) (val up (fun x (plus x N.n))) (val get (fun x (minus x 5)))")
         self.tied(False, program, "P", body, [("t", 0, 5), ("t", 5, 10)])
@@ -213,12 +237,17 @@ class Tied(Ties):
 
     def test_the_promise_for_programs_behind(self):
         # Where bodies are tied, programs come to the same number with either.
-        mains = (
-            "(call Fl.get Fl.off)", "(call Fl.get (call Fl.turn Fl.off))", "(case (call Fl.is (call Fl.turn Fl.off)) ((On) 3) ((Off) 4))",
-            "(call Fl.get (call (call Fl.both (call Fl.turn Fl.off)) (call Fl.turn Fl.off)))",
-        )
-        for main in mains:
-            self.assertEqual(len({run(flag(body, main=main)) for body in VALUES}), 1)
+        choice = random.Random(6)
+        numbers = {}
+        for turn in range(80):
+            main = some_number(choice, 4)
+            program = flag(NUMS, main=main)
+            look_over(program)
+            papers_of(program)
+            told = {told_of(run, flag(body, main=main)) for body in VALUES} - {"TooLong", "TooDeep", "TooGreat"}
+            self.assertLessEqual(len(told), 1, main)
+            numbers[turn] = told
+        self.assertGreater(len({number for told in numbers.values() for number in told}), 5)
 
 
 class Bounds(Ties):
@@ -357,7 +386,7 @@ class Refusals(Ties):
         self.refuses("NoFace", "P", "")
 
     def no_tie(self, items, body):
-        ground = BIT + PAIR + LIST + "(kind opt () (None) (Some num)) (kind one (?a) (One))"
+        ground = BIT + PAIR + LIST + "(kind opt () (None) (Some num)) (kind opu () (Sone num) (Nope)) (kind one (?a) (One))"
         program = read(ground + f"(face F () {items}) (part P F {body}) (main 0)")
         self.refuses("NoTie", "P", body, program)
 
@@ -367,7 +396,7 @@ class Refusals(Ties):
         self.no_tie("(hide h 1)", "(hide h (?a) num)")
         any_kind = "(ring ((f x (call f x))) f)"
         for kind in (
-            "(-> ?a ?a)", "(-> num num)", "(-> (-> bit bit) bit)", "(-> (list bit) num)", "(-> opt num)", "(-> (pair bit bit) num)",
+            "(-> ?a ?a)", "(-> num num)", "(-> (-> bit bit) bit)", "(-> (list bit) num)", "(-> opt num)", "(-> opu num)", "(-> (pair bit bit) num)",
             "(-> (one num) num)", "(-> bit ?a)", "(-> bit (list bit))", "(-> bit opt)", "(-> bit (pair num num))", "(-> bit (one bit))",
             "(-> bit (-> num bit))", "(-> num (-> bit bit))", "(-> t (-> opt t))", "(-> bit (-> bit (list num)))", "(-> (-> t t) num)",
             "(-> spot num)", "(-> bit spot)",
