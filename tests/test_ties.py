@@ -345,6 +345,14 @@ class Bounds(Ties):
             self.of_face(False, face, other, one, [("t", 1, 1)])
             self.of_face(False, face, other, other, [("t", 1, 1)])
 
+    def test_vals_that_refuse_where_nothing_can_be_chosen(self):
+        # The bodies don't come to values, whatever is asked of them.
+        face = "(hide t 0) (val get (-> t num))"
+        one = "(hide t () num) (val get (fun x x))"
+        self.of_face(True, face, one, one, [])
+        self.of_face(False, face, one, one + f"(val aid {DEEP})", [])
+        self.of_face(False, "", f"(val aid {GREAT})", "", [])
+
     def test_a_choice_that_refuses_alone(self):
         face = "(hide t 0) (val get (-> t num))"
         one = "(hide t () num) (val get (fun x x))"
